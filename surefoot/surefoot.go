@@ -1,0 +1,62 @@
+// Package surefoot: a small language, its code, and the checks that it needs not: see DOC.md.
+package surefoot
+
+import (
+	"surefoot/api"
+	"surefoot/grammar"
+	"surefoot/names"
+	"surefoot/tree"
+	"surefoot/words"
+)
+
+// Program is a program that was read.
+type Program struct{ tree *tree.Program }
+
+// Code is a code for the machine.
+type Code struct{}
+
+// Read reads a program (P3 to P5).
+func Read(text string) (*Program, api.Fault) {
+	list, fault := words.Cut(text)
+	if fault.Code != api.OK {
+		return nil, fault
+	}
+	program, fault := grammar.Parse(list)
+	if fault.Code != api.OK {
+		return nil, fault
+	}
+	fault = names.Resolve(program, len(text))
+	if fault.Code != api.OK {
+		return nil, fault
+	}
+	return &Program{tree: program}, api.Fault{}
+}
+
+// Print writes a program (P6).
+func (p *Program) Print() string { return "" }
+
+// Params tells how many arguments main takes (P6).
+func (p *Program) Params() int {
+	if p == nil || p.tree == nil {
+		return 0
+	}
+	return len(p.tree.Funcs[p.tree.Main].Params)
+}
+
+// Walk runs a program as it stands (P7, P8).
+func (p *Program) Walk(args []int64, fuel int) api.Result { return api.Result{} }
+
+// Sites tells where a run can trap, and where it is sure that it does not (P9 to P11).
+func (p *Program) Sites() []api.Site { return nil }
+
+// Compile translates a program (P12).
+func (p *Program) Compile() *Code { return nil }
+
+// Bytes writes a code (P13).
+func (c *Code) Bytes() string { return "" }
+
+// Load reads a code (P14).
+func Load(bytes string) (*Code, api.Errno) { return nil, api.OK }
+
+// Run runs a code (P15).
+func (c *Code) Run(args []int64, fuel int) api.Result { return api.Result{} }
