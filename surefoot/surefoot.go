@@ -5,12 +5,17 @@ import (
 	"surefoot/api"
 	"surefoot/grammar"
 	"surefoot/names"
+	"surefoot/sites"
 	"surefoot/tree"
+	"surefoot/walk"
 	"surefoot/words"
 )
 
 // Program is a program that was read.
 type Program struct{ tree *tree.Program }
+
+// isNone tells of a program that Read did not give.
+func (p *Program) isNone() bool { return p == nil || p.tree == nil }
 
 // Code is a code for the machine.
 type Code struct{}
@@ -29,6 +34,7 @@ func Read(text string) (*Program, api.Fault) {
 	if fault.Code != api.OK {
 		return nil, fault
 	}
+	sites.Number(program)
 	return &Program{tree: program}, api.Fault{}
 }
 
@@ -37,14 +43,19 @@ func (p *Program) Print() string { return "" }
 
 // Params tells how many arguments main takes (P6).
 func (p *Program) Params() int {
-	if p == nil || p.tree == nil {
+	if p.isNone() {
 		return 0
 	}
 	return len(p.tree.Funcs[p.tree.Main].Params)
 }
 
 // Walk runs a program as it stands (P7, P8).
-func (p *Program) Walk(args []int64, fuel int) api.Result { return api.Result{} }
+func (p *Program) Walk(args []int64, fuel int) api.Result {
+	if p.isNone() {
+		return api.Result{}
+	}
+	return walk.Run(p.tree, args, fuel)
+}
 
 // Sites tells where a run can trap, and where it is sure that it does not (P9 to P11).
 func (p *Program) Sites() []api.Site { return nil }

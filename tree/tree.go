@@ -1,7 +1,10 @@
 // Package tree has the parts of a program that was read.
 package tree
 
-import "surefoot/words"
+import (
+	"surefoot/api"
+	"surefoot/words"
+)
 
 // Name is a name where it stands in the text.
 type Name struct {
@@ -15,7 +18,8 @@ type Program struct {
 	Items  []Item // arrays and functions, in their order
 	Arrays []*Array
 	Funcs  []*Func
-	Main   int // which function is main
+	Main   int        // which function is main
+	Sites  []api.Site // where a run can trap, in the order of the text; whether they are sure is left open
 }
 
 // Item is an *Array or a *Func.
@@ -57,6 +61,7 @@ type Set struct {
 type Store struct {
 	Array        Name
 	Index, Value Expr
+	Site         int
 }
 
 // If goes one of two ways.
@@ -116,12 +121,14 @@ type Variable struct{ Name Name }
 type Element struct {
 	Array Name
 	Index Expr
+	Site  int
 }
 
 // Call is what a function gives.
 type Call struct {
 	Func Name
 	Args []Expr
+	Site int // api.None if the function has no conditions
 }
 
 // Bracket is an expression in brackets.
@@ -135,6 +142,7 @@ type Binary struct {
 	Op          words.Kind
 	At          int // of the operator
 	Left, Right Expr
+	Site        int // api.None if it does not divide
 }
 
 func (*Number) isExpr()   {}
