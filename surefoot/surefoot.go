@@ -6,13 +6,17 @@ import (
 	"surefoot/grammar"
 	"surefoot/names"
 	"surefoot/sites"
+	"surefoot/sure"
 	"surefoot/tree"
 	"surefoot/walk"
 	"surefoot/words"
 )
 
 // Program is a program that was read.
-type Program struct{ tree *tree.Program }
+type Program struct {
+	words []words.Word
+	tree  *tree.Program
+}
 
 // isNone tells of a program that Read did not give.
 func (p *Program) isNone() bool { return p == nil || p.tree == nil }
@@ -35,11 +39,16 @@ func Read(text string) (*Program, api.Fault) {
 		return nil, fault
 	}
 	sites.Number(program)
-	return &Program{tree: program}, api.Fault{}
+	return &Program{words: list, tree: program}, api.Fault{}
 }
 
 // Print writes a program (P6).
-func (p *Program) Print() string { return "" }
+func (p *Program) Print() string {
+	if p.isNone() {
+		return ""
+	}
+	return words.Join(p.words)
+}
 
 // Params tells how many arguments main takes (P6).
 func (p *Program) Params() int {
@@ -58,7 +67,12 @@ func (p *Program) Walk(args []int64, fuel int) api.Result {
 }
 
 // Sites tells where a run can trap, and where it is sure that it does not (P9 to P11).
-func (p *Program) Sites() []api.Site { return nil }
+func (p *Program) Sites() []api.Site {
+	if p.isNone() {
+		return nil
+	}
+	return sure.Sites(p.tree)
+}
 
 // Compile translates a program (P12).
 func (p *Program) Compile() *Code { return nil }
