@@ -366,13 +366,16 @@ func TestSitesAreNewMemory(t *testing.T) {
 	}
 }
 
-// TestSitesOfDeepLoops is what takes longest: each while is gone through four times, each time that the one around it is.
-func TestSitesOfDeepLoops(t *testing.T) {
+// deepLoops is what takes longest: each while is gone through four times, each time that the one around it is.
+func deepLoops() string {
 	head, tail := "fn main(n){let z=0;let p=0;let q=0;", ""
 	for _, x := range strings.Fields("a b c d e f g h") {
 		head += "let " + x + "=0;z=0;while 0<1{"
 		tail = "z=0;if " + x + "<-5{z=1;}if " + x + ">5{" + x + "=0-9;}else{" + x + "=9;}p=0;q=0;}" + tail
 	}
-	text := head + "z=0;p=0;q=0;while 0<1{out 1/q;out 1/n;p=q;q=z;z=1;}" + tail + "}"
-	checkSites(t, text, "dd")
+	return head + "z=0;p=0;q=0;while 0<1{out 1/q;out 1/n;p=q;q=z;z=1;}" + tail + "}"
+}
+
+func TestSitesOfDeepLoops(t *testing.T) {
+	checkSites(t, deepLoops(), "dd")
 }

@@ -3,7 +3,10 @@ package surefoot
 
 import (
 	"surefoot/api"
+	"surefoot/code"
+	"surefoot/compile"
 	"surefoot/grammar"
+	"surefoot/machine"
 	"surefoot/names"
 	"surefoot/sites"
 	"surefoot/sure"
@@ -22,7 +25,10 @@ type Program struct {
 func (p *Program) isNone() bool { return p == nil || p.tree == nil }
 
 // Code is a code for the machine.
-type Code struct{}
+type Code struct{ code *code.Code }
+
+// isNone tells of a code that neither Compile nor Load gave.
+func (c *Code) isNone() bool { return c == nil || c.code == nil }
 
 // Read reads a program (P3 to P5).
 func Read(text string) (*Program, api.Fault) {
@@ -75,13 +81,34 @@ func (p *Program) Sites() []api.Site {
 }
 
 // Compile translates a program (P12).
-func (p *Program) Compile() *Code { return nil }
+func (p *Program) Compile() *Code {
+	if p.isNone() {
+		return nil
+	}
+	return &Code{code: compile.Translate(p.tree, sure.Sites(p.tree))}
+}
 
 // Bytes writes a code (P13).
-func (c *Code) Bytes() string { return "" }
+func (c *Code) Bytes() string {
+	if c.isNone() {
+		return ""
+	}
+	return c.code.Bytes()
+}
 
 // Load reads a code (P14).
-func Load(bytes string) (*Code, api.Errno) { return nil, api.OK }
+func Load(bytes string) (*Code, api.Errno) {
+	loaded, ok := code.FromBytes(bytes)
+	if !ok {
+		return nil, api.ErrCode
+	}
+	return &Code{code: loaded}, api.OK
+}
 
 // Run runs a code (P15).
-func (c *Code) Run(args []int64, fuel int) api.Result { return api.Result{} }
+func (c *Code) Run(args []int64, fuel int) api.Result {
+	if c.isNone() {
+		return api.Result{}
+	}
+	return machine.Run(c.code, args, fuel)
+}

@@ -37,11 +37,14 @@ func mustRead(t *testing.T, text string) *Program {
 	return p
 }
 
+// walks wants the same of the program's code too.
 func walks(t *testing.T, text string, args []int64, fuel int, want api.Result) {
 	t.Helper()
-	if got := mustRead(t, text).Walk(args, fuel); !sameResult(got, want) {
+	p := mustRead(t, text)
+	if got := p.Walk(args, fuel); !sameResult(got, want) {
 		t.Errorf("P7: Walk of %q, %v, %d: %+v, want %+v", text, args, fuel, got, want)
 	}
+	runs(t, p, args, fuel, want)
 }
 
 const (
